@@ -1,0 +1,1 @@
+"""Crates in stacks on a floor, moved by a crane."""
