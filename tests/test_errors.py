@@ -1,18 +1,7 @@
 import unittest
 
-from cranefloor.errors import (
-    BadText,
-    CraneError,
-    NoFloor,
-    NoLift,
-    NoNames,
-    NoOrder,
-    NoStanding,
-    OtherCrates,
-    TooMany,
-)
-
-REFUSALS = [NoFloor, NoStanding, NoLift, OtherCrates, TooMany, NoNames, NoOrder, BadText]
+from common import REFUSALS
+from cranefloor.errors import CraneError
 
 
 class ErrorClasses(unittest.TestCase):

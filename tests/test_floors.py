@@ -1,30 +1,18 @@
 import itertools
 import unittest
 
-from cranefloor.errors import (
-    BadText,
-    CraneError,
-    NoFloor,
-    NoLift,
-    NoNames,
-    NoOrder,
-    NoStanding,
-    OtherCrates,
-    TooMany,
-)
+from common import HUGE, RefusalTestCase
+from cranefloor.errors import NoFloor
 from cranefloor.floors import Floor, is_good
-
-HUGE = 10 ** 5000
 
 
 def all_pairs():
     return list(itertools.permutations(range(10), 2))
 
 
-class FloorBounds(unittest.TestCase):
+class FloorBounds(RefusalTestCase):
     def refused(self, *handed):
-        with self.assertRaises(NoFloor):
-            Floor(*handed)
+        self.assert_refused(NoFloor, Floor, *handed)
 
     def test_every_floor_within_the_bounds_is_made_and_tells_its_numbers(self):
         for stacks in range(2, 5):
@@ -93,15 +81,6 @@ class FloorBounds(unittest.TestCase):
     def test_what_is_no_list_of_bans(self):
         for wrong in [None, 3, "12", {(1, 2): True}]:
             self.refused(3, 3, 2, wrong)
-
-    def test_the_refusal_is_a_crane_error_and_a_value_error_and_none_of_the_others(self):
-        with self.assertRaises(ValueError) as caught:
-            Floor(1, 3, 2, [])
-        refusal = caught.exception
-        self.assertIsInstance(refusal, NoFloor)
-        self.assertIsInstance(refusal, CraneError)
-        for other in [NoStanding, NoLift, OtherCrates, TooMany, NoNames, NoOrder, BadText]:
-            self.assertNotIsInstance(refusal, other)
 
 
 class Bans(unittest.TestCase):

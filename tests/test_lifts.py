@@ -1,11 +1,10 @@
 import itertools
 import unittest
 
+from common import HUGE, RefusalTestCase, lifts_by_the_document, standings_of
 from cranefloor.errors import NoLift, NoStanding
 from cranefloor.floors import Floor, is_good
 from cranefloor.lifts import after, lifts
-
-HUGE = 10 ** 5000
 
 FLOORS = [
     (2, 1, 1, []),
@@ -17,38 +16,6 @@ FLOORS = [
     (4, 1, 3, [(0, 1)]),
     (4, 6, 3, [(2, 0), (1, 3)]),
 ]
-
-
-def standings_of(stacks, crates):
-    found = []
-    for row in itertools.permutations(crates):
-        for cuts in itertools.combinations_with_replacement(range(len(row) + 1), stacks - 1):
-            edges = (0,) + cuts + (len(row),)
-            found.append(tuple(row[low:high] for low, high in zip(edges, edges[1:])))
-    return found
-
-
-def lifts_by_the_document(handed, standing):
-    # Built crate by crate from what the floor was made of, so that a fault of the program is not a fault here.
-    stacks, height, crane, bans = handed
-    found = {}
-    for source, target, many in itertools.product(range(-1, stacks + 1), range(-1, stacks + 1), range(-1, 8)):
-        if not 0 <= source < stacks or not 0 <= target < stacks or source == target:
-            continue
-        if not 1 <= many <= crane or many > len(standing[source]):
-            continue
-        piles = [list(stack) for stack in standing]
-        carried = []
-        for time in range(many):
-            carried.insert(0, piles[source].pop())
-        for crate in carried:
-            piles[target].append(crate)
-        if len(piles[target]) > height:
-            continue
-        if any((pile[k + 1], pile[k]) in bans for pile in piles for k in range(len(pile) - 1)):
-            continue
-        found[(source, target, many)] = tuple(tuple(pile) for pile in piles)
-    return found
 
 
 def cases():
@@ -149,12 +116,10 @@ class StandingsBehind(unittest.TestCase):
             self.assertIsInstance(stack, tuple)
 
 
-class LiftsRefused(unittest.TestCase):
+class LiftsRefused(RefusalTestCase):
     def refused(self, floor, standing, *wrong):
         for lift in wrong:
-            with self.assertRaises(NoLift, msg=lift) as caught:
-                after(floor, standing, lift)
-            self.assertNotIsInstance(caught.exception, NoStanding)
+            self.assert_refused(NoLift, after, floor, standing, lift)
 
     def test_two_alike_stacks(self):
         floor = Floor(3, 3, 2, [])
@@ -215,7 +180,7 @@ class LiftsRefused(unittest.TestCase):
             self.refused(floor, standing, *wrong)
 
 
-class StandingsRefused(unittest.TestCase):
+class StandingsRefused(RefusalTestCase):
     wrong = [
         (),
         ((0,),),
@@ -231,23 +196,18 @@ class StandingsRefused(unittest.TestCase):
     def test_lifts_refuses_a_standing_that_is_not_good(self):
         floor = Floor(2, 3, 2, [(1, 0)])
         for standing in self.wrong:
-            with self.assertRaises(NoStanding, msg=standing):
-                lifts(floor, standing)
+            self.assert_refused(NoStanding, lifts, floor, standing)
 
     def test_after_refuses_a_standing_that_is_not_good_ahead_of_any_lift(self):
         floor = Floor(2, 3, 2, [(1, 0)])
         for standing in self.wrong:
             for lift in [(0, 1, 1), (0, 0, 1), (0, 7, 1), (-1, 0, 1), (0, 1, 0), (0, 1, 9)]:
-                with self.assertRaises(NoStanding, msg=(standing, lift)) as caught:
-                    after(floor, standing, lift)
-                self.assertNotIsInstance(caught.exception, NoLift)
+                self.assert_refused(NoStanding, after, floor, standing, lift)
 
     def test_a_lift_that_would_mend_the_standing_is_refused_with_it(self):
         floor = Floor(2, 3, 2, [(1, 0)])
-        with self.assertRaises(NoStanding):
-            after(floor, ((0, 1), ()), (0, 1, 1))
-        with self.assertRaises(NoStanding):
-            after(floor, ((2, 3, 4, 5), ()), (0, 1, 1))
+        self.assert_refused(NoStanding, after, floor, ((0, 1), ()), (0, 1, 1))
+        self.assert_refused(NoStanding, after, floor, ((2, 3, 4, 5), ()), (0, 1, 1))
 
 
 class LiftsUndone(unittest.TestCase):
